@@ -5,6 +5,7 @@ import (
 
 	"jacquard/api"
 	"jacquard/event"
+	"jacquard/fit"
 	"jacquard/order"
 	"jacquard/prog"
 	"jacquard/rel"
@@ -49,7 +50,7 @@ type search struct {
 // All is all candidate executions of p, in the order of Less; false and none if
 // there are more than most.
 func All(p api.Prog, most int) ([]api.Exec, bool) {
-	if !fits(p) {
+	if !fit.Prog(p) {
 		return nil, false
 	}
 	s := &search{p: p, inits: event.Inits(p), most: min(max(most, 0), limit), seen: map[sources]struct{}{}}
@@ -57,29 +58,6 @@ func All(p api.Prog, most int) ([]api.Exec, bool) {
 		return nil, false
 	}
 	return s.execs(), true
-}
-
-// fits tells if p is no greater than what Compile makes, and leads nowhere
-// beyond its locations: sources has no room for more.
-func fits(p api.Prog) bool {
-	if len(p.Threads) > api.MaxThreads || len(p.Locs) > api.MaxLocs {
-		return false
-	}
-	for _, list := range p.Threads {
-		if len(list) > api.MaxIns {
-			return false
-		}
-		for _, i := range list {
-			if hasLoc(i.Kind) && (i.Loc < 0 || i.Loc >= len(p.Locs)) {
-				return false
-			}
-		}
-	}
-	return true
-}
-
-func hasLoc(kind int) bool {
-	return kind == api.IStore || kind == api.ILoad || kind == api.ICas
 }
 
 // run begins with the weave that reads nothing but the Inits, and turns one
