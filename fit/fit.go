@@ -23,13 +23,14 @@ func Prog(p api.Prog) bool {
 // within tells if all locations of list are below locs.
 func within(list []api.Ins, locs int) bool {
 	for _, i := range list {
-		if hasLoc(i.Kind) && (i.Loc < 0 || i.Loc >= locs) {
+		if HasLoc(i.Kind) && (i.Loc < 0 || i.Loc >= locs) {
 			return false
 		}
 	}
 	return true
 }
 
-func hasLoc(kind int) bool {
+// HasLoc tells if instructions of kind ask for a location.
+func HasLoc(kind int) bool {
 	return kind == api.IStore || kind == api.ILoad || kind == api.ICas
 }
